@@ -1,0 +1,77 @@
+// Package tint: a machine with a heap that is tidied up while it runs: see DOC.md.
+package tint
+
+import (
+	"tint/api"
+	"tint/code"
+	"tint/flow"
+)
+
+// Machine is a machine with its heap.
+type Machine struct{}
+
+// Check tells whether an image may run (P3).
+func Check(image string) api.Errno {
+	_, _, err := load(image)
+	return err
+}
+
+// Maps tells the types ahead of each instruction (P4).
+func Maps(image string) ([]api.Point, api.Errno) {
+	program, frames, err := load(image)
+	if err != api.OK {
+		return nil, err
+	}
+	var points []api.Point
+	for k, frame := range frames {
+		if k < len(program.List) {
+			points = append(points, point(program.List[k].Place, frame, program.Locals))
+		}
+	}
+	return points, api.OK
+}
+
+// load answers an image's program and the frames of its instructions, or the error of Check.
+func load(image string) (code.Program, []flow.Frame, api.Errno) {
+	program, err := code.Read(image)
+	if err != api.OK {
+		return code.Program{}, nil, err
+	}
+	frames, typed := flow.Frames(program)
+	if !typed {
+		return code.Program{}, nil, api.ErrType
+	}
+	return program, frames, api.OK
+}
+
+func point(place int, frame flow.Frame, locals int) api.Point {
+	if !frame.Reached {
+		return api.Point{Place: place}
+	}
+	types := frame.LocalTypes(locals)
+	stack := frame.StackTypes()
+	return api.Point{Place: place, Reached: true, Locals: types, Stack: stack}
+}
+
+// New makes a machine (P5).
+func New(image string, inputs []int, cells int) (*Machine, api.Errno) { return nil, api.OK }
+
+// State tells how the machine stands (P6).
+func (m *Machine) State() api.State { return api.State{} }
+
+// Heap tells of all cells (P6).
+func (m *Machine) Heap() []api.Cell { return nil }
+
+// Output tells what came out so far (P6).
+func (m *Machine) Output() []int { return nil }
+
+// Step does one instruction (P7, P8).
+func (m *Machine) Step() (int, api.Errno) { return 0, api.OK }
+
+// Collect does some units of the collector's work (P9).
+func (m *Machine) Collect(units int) (int, api.Errno) { return 0, api.OK }
+
+// Run runs an image (P10).
+func Run(image string, inputs []int, cells int, units []int, steps int) (api.End, api.Errno) {
+	return api.End{}, api.OK
+}
