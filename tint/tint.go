@@ -7,9 +7,6 @@ import (
 	"tint/flow"
 )
 
-// Machine is a machine with its heap.
-type Machine struct{}
-
 // Check tells whether an image may run (P3).
 func Check(image string) api.Errno {
 	_, _, err := load(image)
@@ -52,21 +49,6 @@ func point(place int, frame flow.Frame, locals int) api.Point {
 	stack := frame.StackTypes()
 	return api.Point{Place: place, Reached: true, Locals: types, Stack: stack}
 }
-
-// New makes a machine (P5).
-func New(image string, inputs []int, cells int) (*Machine, api.Errno) { return nil, api.OK }
-
-// State tells how the machine stands (P6).
-func (m *Machine) State() api.State { return api.State{} }
-
-// Heap tells of all cells (P6).
-func (m *Machine) Heap() []api.Cell { return nil }
-
-// Output tells what came out so far (P6).
-func (m *Machine) Output() []int { return nil }
-
-// Step does one instruction (P7, P8).
-func (m *Machine) Step() (int, api.Errno) { return 0, api.OK }
 
 // Collect does some units of the collector's work (P9).
 func (m *Machine) Collect(units int) (int, api.Errno) { return 0, api.OK }
