@@ -34,6 +34,10 @@ func (h *Heap) Set(r, n, s int) int {
 	if cell == nil {
 		return outcome
 	}
+	if h.phase == api.Mark {
+		// The cell r may be Black: the collector would not look there again.
+		h.shade(s)
+	}
 	if n == 0 {
 		cell.A = s
 	} else {

@@ -1,4 +1,4 @@
-// Package heap keeps the cells of a machine.
+// Package heap keeps the cells of a machine and collects those that nobody reaches.
 package heap
 
 import "tint/api"

@@ -46,8 +46,8 @@ func scribbled(s api.State, cells []api.Cell, out []int) bool {
 func TestMachineListsAreFresh(t *testing.T) {
 	x := image(2, api.In, api.Dup, api.Out, api.Out, api.New, api.Dup, api.In, api.Note, api.Store, 1, api.In, api.In, api.Out, api.Store, 0, api.Jump, 0)
 	inputs := []int{4, 5, 6, 7, 8, 9, 10, 11}
-	m := machine(t, x, inputs, 9)
-	s := begin(x, inputs, 9)
+	m := machine(t, x, inputs, 4)
+	s := begin(t, x, inputs, 4)
 	for range 90 {
 		state, cells, out := m.State(), m.Heap(), m.Output()
 		scribbleSlots(state.Locals)
@@ -55,9 +55,8 @@ func TestMachineListsAreFresh(t *testing.T) {
 		scribbleCells(cells)
 		scribble(out, 77)
 		compare(t, x, m, s)
-		m.Step()
-		s.step()
-		compare(t, x, m, s)
+		collectBoth(t, x, m, s, 2)
+		stepBoth(t, x, m, s)
 		if !scribbled(state, cells, out) {
 			t.Errorf("P2: a later call wrote into a list that came out")
 		}
@@ -117,14 +116,14 @@ func TestMachinesAreApart(t *testing.T) {
 	var stories []*story
 	for k := range 3 {
 		inputs := []int{k, 2 * k, 3 * k}
-		machines = append(machines, machine(t, x, inputs, 10+k))
-		stories = append(stories, begin(x, inputs, 10+k))
+		machines = append(machines, machine(t, x, inputs, 3+k))
+		stories = append(stories, begin(t, x, inputs, 3+k))
 	}
 	d := dice{3}
 	for range 150 {
 		k := d.below(3)
-		machines[k].Step()
-		stories[k].step()
+		collectBoth(t, x, machines[k], stories[k], d.below(4))
+		stepBoth(t, x, machines[k], stories[k])
 		for n := range machines {
 			compare(t, x, machines[n], stories[n])
 		}
@@ -140,6 +139,8 @@ func TestAskingChangesNothing(t *testing.T) {
 			asked.State()
 			asked.Heap()
 			asked.Output()
+			asked.Collect(0)
+			asked.Collect(-1)
 			tint.Maps(c.x)
 			first, firstErr := asked.Step()
 			second, secondErr := silent.Step()

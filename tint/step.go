@@ -49,7 +49,10 @@ func (m *Machine) do(in code.Instruction, after *standing) int {
 	return api.Running
 }
 
+// take does the instructions that take a cell. What Weak pops is a root while room is made, for the machine itself still stands ahead of the instruction.
 func (m *Machine) take(op int, after *standing) int {
+	roots := m.roots()
+	m.heap.MakeRoom(roots)
 	var cell int
 	var found bool
 	if op == api.Weak {

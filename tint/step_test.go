@@ -172,7 +172,7 @@ func TestEndings(t *testing.T) {
 	}
 }
 
-// The document's examples, as far as no collector is asked for, step by step against the story.
+// The document's examples, step by step against the story, with no units, few and many.
 func TestStepsOfExamples(t *testing.T) {
 	for _, c := range []struct {
 		text    string
@@ -192,6 +192,7 @@ func TestStepsOfExamples(t *testing.T) {
 		{"54 00 0c 10 00", nil, 1, 99, api.TrapNull, 0, 2, nil},
 		{"54 00 0d 18 0a 01 00 00", nil, 1, 99, api.TrapKind, 0, 2, nil},
 		{"54 00 15 16 13 00", []int{5, -6}, 1, 7, api.Running, 0, 7, []int{5, -6}},
+		{"54 00 0d 0a 13 00", nil, 1, 2000, api.Running, 0, 2000, nil},
 		{"54 01 0d 08 00 0d 07 00 0f 00 07 00 10 00", nil, 1, 99, api.Full, 0, 3, nil},
 		{"54 01 0d 08 00 0d 07 00 0f 00 07 00 10 00", nil, 2, 99, api.Halted, 0, 8, nil},
 		{"54 01 0c 08 00 0d 09 07 00 0f 00 08 00 13 03", nil, 4, 100, api.Full, 0, 27, nil},
@@ -199,16 +200,21 @@ func TestStepsOfExamples(t *testing.T) {
 		{"54 00 0d 17 18 0a 01 00 00", nil, 1, 99, api.Full, 0, 2, nil},
 	} {
 		x := bytesOf(t, c.text)
-		along(t, x, c.inputs, c.cells, c.limit)
-		m := machine(t, x, c.inputs, c.cells)
-		taken := 0
-		for taken < c.limit && m.State().Outcome == api.Running {
-			m.Step()
-			taken++
-		}
-		s := m.State()
-		if s.Outcome != c.outcome || s.Value != c.value || taken != c.steps || !slices.Equal(m.Output(), c.out) {
-			t.Errorf("P7: example %s, %d cells: %+v, %d steps, out %v", c.text, c.cells, s, taken, m.Output())
+		for _, units := range []int{0, 1, 2, 3, 1000} {
+			if units < 1000 || c.limit < 1000 {
+				along(t, x, c.inputs, c.cells, c.limit, units)
+			}
+			m := machine(t, x, c.inputs, c.cells)
+			taken := 0
+			for taken < c.limit && m.State().Outcome == api.Running {
+				m.Collect(units)
+				m.Step()
+				taken++
+			}
+			s := m.State()
+			if s.Outcome != c.outcome || s.Value != c.value || taken != c.steps || !slices.Equal(m.Output(), c.out) {
+				t.Errorf("P7: example %s, %d cells, %d units: %+v, %d steps, out %v", c.text, c.cells, units, s, taken, m.Output())
+			}
 		}
 	}
 }

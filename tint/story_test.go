@@ -11,6 +11,7 @@ import (
 
 // story: a second reading of the document, for machines: it goes over the image's bytes as they are, and each value has the type that it was made with.
 type story struct {
+	t              *testing.T
 	code           string
 	points         map[int]api.Point
 	place          int
@@ -18,11 +19,13 @@ type story struct {
 	locals, stack  []api.Slot
 	in, out        []int
 	cells          []api.Cell
+	phase, hand    int
+	deeds          deeds
 }
 
-func begin(x string, inputs []int, cells int) *story {
+func begin(t *testing.T, x string, inputs []int, cells int) *story {
 	points, _ := reference(x)
-	s := &story{code: x[2:], points: map[int]api.Point{}, in: slices.Clone(inputs)}
+	s := &story{t: t, code: x[2:], points: map[int]api.Point{}, in: slices.Clone(inputs)}
 	for _, p := range points {
 		s.points[p.Place] = p
 	}
@@ -32,10 +35,10 @@ func begin(x string, inputs []int, cells int) *story {
 }
 
 // state: what State should answer. The types are those of Maps; what is held must be of that type.
-func (s *story) state(t *testing.T) api.State {
-	t.Helper()
+func (s *story) state() api.State {
+	t := s.t
 	point := s.points[s.place]
-	told := api.State{Outcome: s.outcome, Value: s.value, Place: s.place}
+	told := api.State{Outcome: s.outcome, Value: s.value, Place: s.place, Phase: s.phase, Hand: s.hand}
 	if len(point.Locals) != len(s.locals) || len(point.Stack) != len(s.stack) {
 		t.Fatalf("at place %d: %v and %v, by Maps %v", s.place, s.locals, s.stack, point)
 	}
@@ -54,42 +57,6 @@ func (s *story) state(t *testing.T) api.State {
 		told.Stack = append(told.Stack, v)
 	}
 	return told
-}
-
-// reachable: which cells are.
-func (s *story) reachable(t *testing.T) []bool {
-	told := s.state(t)
-	seen := make([]bool, len(s.cells))
-	var todo []int
-	for _, slot := range append(told.Locals, told.Stack...) {
-		if slot.Type == api.Ref {
-			todo = append(todo, slot.V)
-		}
-	}
-	for len(todo) > 0 {
-		r := todo[0]
-		todo = todo[1:]
-		if r == -1 || seen[r] {
-			continue
-		}
-		seen[r] = true
-		if !s.cells[r].Weak {
-			todo = append(todo, s.cells[r].A, s.cells[r].B)
-		}
-	}
-	return seen
-}
-
-// take: the free cell of the smallest number; -1, if there is none.
-func (s *story) take(cell api.Cell) int {
-	for k := range s.cells {
-		if s.cells[k].Colour == api.Free {
-			cell.Colour = api.White
-			s.cells[k] = cell
-			return k
-		}
-	}
-	return -1
 }
 
 // trap: what awaits an instruction that wants a cell of a kind.
@@ -198,14 +165,6 @@ func (s *story) result(op byte, n int, u, v api.Slot) ([]api.Slot, int) {
 	return nil, 0
 }
 
-func (s *story) taken(cell api.Cell) ([]api.Slot, int) {
-	k := s.take(cell)
-	if k == -1 {
-		return nil, api.Full
-	}
-	return refer(k), 0
-}
-
 func (s *story) touch(op byte, n int, cell *api.Cell, v int) []api.Slot {
 	side := []*int{&cell.A, &cell.B}[n&1]
 	switch op {
@@ -213,6 +172,11 @@ func (s *story) touch(op byte, n int, cell *api.Cell, v int) []api.Slot {
 		return refer(*side)
 	case api.Set:
 		*side = v
+		if s.phase == api.Mark {
+			white := count(s.cells, api.White)
+			s.shade(v)
+			s.deeds.bySet += white - count(s.cells, api.White)
+		}
 	case api.Number:
 		return number(cell.Num)
 	case api.Note:
@@ -229,8 +193,7 @@ func sameState(a, b api.State) bool {
 
 // compare: what the machine tells, against the story.
 func compare(t *testing.T, x string, m *tint.Machine, s *story) {
-	t.Helper()
-	want := s.state(t)
+	want := s.state()
 	if got := m.State(); !sameState(got, want) {
 		t.Errorf("P6: %x: State %+v, want %+v", x, got, want)
 	}
@@ -239,70 +202,5 @@ func compare(t *testing.T, x string, m *tint.Machine, s *story) {
 	}
 	if got := m.Output(); !slices.Equal(got, s.out) {
 		t.Errorf("P6: %x: Output %v, want %v", x, got, s.out)
-	}
-}
-
-// tale: how far an image was followed.
-type tale struct {
-	steps   int
-	outcome int
-	done    [25]int // instructions that were done to their end, by kind
-	mixed   int     // states with a Mixed local
-}
-
-// along: an image is followed on a machine and in the story, and they are compared behind each step. It ends ahead of an instruction that wants a cell when none is free while some could be freed: that is the collector's.
-func along(t *testing.T, x string, inputs []int, cells, steps int) tale {
-	t.Helper()
-	m, err := tint.New(x, inputs, cells)
-	if m == nil || err != api.OK {
-		t.Fatalf("P5: New(%x, %v, %d) = %v, %d", x, inputs, cells, m, err)
-	}
-	s := begin(x, inputs, cells)
-	compare(t, x, m, s)
-	var seen tale
-	for seen.steps < steps && s.outcome == api.Running && !t.Failed() {
-		op := s.code[s.place]
-		if (op == api.New || op == api.Weak) && !s.sure(t) {
-			break
-		}
-		want := s.step()
-		got, err := m.Step()
-		if got != want || err != api.OK {
-			t.Errorf("P7: %x, inputs %v, %d cells: step %d = %d, %d, want %d", x, inputs, cells, seen.steps, got, err, want)
-		}
-		seen.steps++
-		if want == api.Running {
-			seen.done[op]++
-		}
-		if slices.Contains(s.points[s.place].Locals, api.Mixed) {
-			seen.mixed++
-		}
-		compare(t, x, m, s)
-	}
-	seen.outcome = s.outcome
-	if s.outcome != api.Running {
-		over(t, x, m, s)
-	}
-	return seen
-}
-
-// sure: there is a free cell, or none can become free.
-func (s *story) sure(t *testing.T) bool {
-	for _, cell := range s.cells {
-		if cell.Colour == api.Free {
-			return true
-		}
-	}
-	return !slices.Contains(s.reachable(t), false)
-}
-
-// over: steps behind the end answer ErrDone and change nothing.
-func over(t *testing.T, x string, m *tint.Machine, s *story) {
-	t.Helper()
-	for range 2 {
-		if got, err := m.Step(); got != 0 || err != api.ErrDone {
-			t.Errorf("P7: %x: a step behind the end = %d, %d", x, got, err)
-		}
-		compare(t, x, m, s)
 	}
 }

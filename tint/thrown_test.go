@@ -84,6 +84,7 @@ func aim(d *dice, code []byte, jumps []int, at map[int]string, slip int) {
 
 // Thrown images of all lengths, against the ways followed one by one.
 func TestThrownImages(t *testing.T) {
+	t.Parallel()
 	d := dice{7}
 	var answers [10]int
 	mixed, unreached, full := 0, 0, 0

@@ -50,9 +50,6 @@ func point(place int, frame flow.Frame, locals int) api.Point {
 	return api.Point{Place: place, Reached: true, Locals: types, Stack: stack}
 }
 
-// Collect does some units of the collector's work (P9).
-func (m *Machine) Collect(units int) (int, api.Errno) { return 0, api.OK }
-
 // Run runs an image (P10).
 func Run(image string, inputs []int, cells int, units []int, steps int) (api.End, api.Errno) {
 	return api.End{}, api.OK
