@@ -39,14 +39,17 @@ func block(kind int, a, b, n, next byte) []byte {
 		return []byte{api.Load, a, api.Load, 3, api.Peek, api.Set, n}
 	case 13: // a cell that from the start is looked at alone
 		return []byte{api.New, api.Weak, api.Store, 3}
+	case 14:
+		return []byte{api.Load, 3, api.Weak, api.Store, 3}
 	}
-	return []byte{api.Load, 3, api.Weak, api.Store, 3}
+	return []byte{api.Load, 3, api.Peek, api.Null, api.Same, api.Out}
 }
 
-// The kinds of blocks that are thrown, each as often as it should come; strong are those without Weak.
+// The kinds of blocks that are thrown, each as often as it should come; strong are those without Weak, telling those that let out what hangs on the units.
 var (
-	strongKinds = []int{0, 0, 0, 0, 1, 2, 3, 3, 4, 5, 6, 6, 7, 8, 9}
-	weakKinds   = []int{0, 0, 0, 0, 0, 0, 1, 2, 3, 3, 3, 3, 4, 5, 6, 6, 6, 10, 10, 11, 11, 11, 11, 12, 12, 12, 12, 13, 13, 13, 14}
+	strongKinds  = []int{0, 0, 0, 0, 1, 2, 3, 3, 4, 5, 6, 6, 7, 8, 9}
+	weakKinds    = []int{0, 0, 0, 0, 0, 0, 1, 2, 3, 3, 3, 3, 4, 5, 6, 6, 6, 10, 10, 11, 11, 11, 11, 12, 12, 12, 12, 13, 13, 13, 14}
+	tellingKinds = []int{0, 1, 2, 3, 4, 5, 6, 7, 8, 9, 10, 11, 12, 13, 13, 15, 15, 15, 15}
 )
 
 // throwBlocks: an image that goes round and round through blocks, and leaves one out where an input is not 0.

@@ -4,7 +4,7 @@ import "tint/api"
 
 // Collect does some units of the collector's work (P9).
 func (m *Machine) Collect(units int) (int, api.Errno) {
-	if units < 0 || units > api.MaxUnits {
+	if !unitsFit(units) {
 		return 0, api.ErrArg
 	}
 	roots := m.roots()
@@ -12,6 +12,10 @@ func (m *Machine) Collect(units int) (int, api.Errno) {
 		m.heap.Unit(roots)
 	}
 	return m.heap.Phase(), api.OK
+}
+
+func unitsFit(units int) bool {
+	return units >= 0 && units <= api.MaxUnits
 }
 
 // roots answers the references in locals and stack. They are those that State tells: a Mixed local is none, for nothing can be loaded from it until something else is stored there.

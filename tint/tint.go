@@ -49,8 +49,3 @@ func point(place int, frame flow.Frame, locals int) api.Point {
 	stack := frame.StackTypes()
 	return api.Point{Place: place, Reached: true, Locals: types, Stack: stack}
 }
-
-// Run runs an image (P10).
-func Run(image string, inputs []int, cells int, units []int, steps int) (api.End, api.Errno) {
-	return api.End{}, api.OK
-}
